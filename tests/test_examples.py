@@ -1,0 +1,92 @@
+"""The examples of the document, in its order: each goes on with the names of those ahead of it."""
+
+import unittest
+
+from markedpair import errors
+
+DEEDS = """
+>>> from markedpair.deeds import Answer, Clear, Deed, Move, Out, Put, Send, Take
+>>> [str(Send(0, 1)), str(Move(1, 0)), Deed.read("move 1 0") == Move(1, 0), Move(2, 0).named_boxes(), Take(0).is_for("receiver"), Clear(0).is_for("receiver")]
+['send 0 1', 'move 1 0', True, (0, 2), False, True]
+>>> Move(1, 1)
+raises BadDeed('to')
+>>> Deed.read("send 0")
+raises BadText(0, 2)
+"""
+
+ROWS = """
+>>> from markedpair.rows import Row
+>>> fresh = Row(0, Put(0), Out(0), Answer(0), then=1, hear=0)
+>>> take = Row(0, Take(0), then=0, empty=(0,))
+>>> [str(fresh), str(take), str(Row(1, then=1, hear=0)), Row.read(str(fresh)) == fresh, take < fresh, fresh.sides(), take.takes, fresh.named_numbers()]
+['0 hear 0 : put 0 , out 0 , answer 0 > 1', '0 empty 0 : take 0 > 0', '1 hear 0 : - > 1', True, True, ('receiver',), True, (0,)]
+>>> Row(0, Put(0), then=1)
+raises BadRow('hear')
+>>> Row.read("0 hear other empty 1 full 1 : - > 0")
+raises BadText(0, 6)
+"""
+
+ENDS = """
+>>> from markedpair.ends import Receiver, Sender
+>>> sender = Sender(take, Row(0, Send(0, 0), then=0), Row(0, Clear(0), then=0, hear=0))
+>>> receiver = Receiver.read("0 hear 0 : put 0 , out 0 , answer 0 > 0")
+>>> [len(sender), str(sender[1]), take in sender, sender.boxes, sender.numbers, [at for at, row in sender.at_state(0)], str(receiver + Row(0, Answer(0), then=0))]
+[3, '0 : send 0 0 > 0', True, 1, (0,), [0, 1, 2], '0 hear 0 : put 0 , out 0 , answer 0 > 0 ; 0 : answer 0 > 0']
+>>> [str(receiver.renumbered({0: 5})), str(sender - take), sender.with_row(0, take) == sender]
+['0 hear 5 : put 0 , out 0 , answer 5 > 0', '0 : send 0 0 > 0 ; 0 hear 0 : clear 0 > 0', True]
+>>> Sender(take, fresh)
+raises BadRow(1)
+>>> sender - fresh
+raises NoRow(fresh)
+"""
+
+CHANNELS = """
+>>> from markedpair.channels import Channel, Doubles, Loses, Overtakes, channels_of
+>>> rough = Channel(2, Overtakes(1), Loses())
+>>> [str(rough), rough.loses, rough.doubles, rough.overtakes, Loses() in rough, Overtakes(2) in rough, [str(fault) for fault in rough]]
+['2 loses overtakes 1', True, False, 1, True, False, ['loses', 'overtakes 1']]
+>>> [str(rough + Doubles()), str(rough - Overtakes(2)), str(rough & Channel(3, Doubles(), Overtakes(2))), str(rough | Channel(3, Doubles()))]
+['2 loses doubles overtakes 1', '2 loses', '2 overtakes 1', '3 loses doubles overtakes 1']
+>>> [Channel(1, Loses()).within(rough), Channel(3).within(rough), len(list(channels_of(2))), [str(channel) for channel in channels_of(1)][:5]]
+[True, False, 12, ['1', '1 overtakes 1', '1 overtakes 2', '1 doubles', '1 doubles overtakes 1']]
+>>> Channel.read("2 overtakes 1 loses")
+raises BadText(0, 3)
+"""
+
+STEPS = """
+>>> from markedpair.steps import Act, Hear, Step
+>>> [str(Act("sender", 0)), str(Hear("receiver", 0)), str(Step.read("receiver 0 place 1 stays"))]
+['sender 0', 'receiver 0 place 0', 'receiver 0 place 1 stays']
+"""
+
+
+def examples_of(text):
+    """The pairs of what is asked and what it gives, None if it gives nothing."""
+    found = []
+    for line in text.strip().split("\n"):
+        if line.startswith(">>> "):
+            found.append((line[4:], None))
+        else:
+            found[-1] = (found[-1][0], line)
+    return found
+
+
+class TestExamples(unittest.TestCase):
+
+    def assert_example(self, asked, given, names):
+        if given is None:
+            exec(asked, names)
+        elif given.startswith("raises "):
+            wanted = eval(given[7:], {**vars(errors), **names})
+            with self.assertRaises(type(wanted)) as caught:
+                eval(asked, names)
+            self.assertIs(type(caught.exception), type(wanted), asked)
+            self.assertEqual(vars(caught.exception), vars(wanted), asked)
+        else:
+            self.assertEqual(repr(eval(asked, names)), given, asked)
+
+    def test_all_of_them(self):
+        names = {}
+        for text in (DEEDS, ROWS, ENDS, CHANNELS, STEPS):
+            for asked, given in examples_of(text):
+                self.assert_example(asked, given, names)

@@ -1,0 +1,100 @@
+"""Tests that the interface stands where the document lists it: names, parameters, methods of each class itself."""
+
+import importlib
+import inspect
+import unittest
+
+# Functions and classes by module, with their parameters as the document writes them.
+CALLS = {
+    "errors": {
+        "LinkError": None, "BadDeed": "part", "BadRow": "part", "BadEnd": "part", "BadChannel": "part",
+        "BadLink": "part", "BadStep": "part", "BadRun": "part", "BadPicture": "part", "BadCount": "value",
+        "BadLog": "at", "BadBench": "part", "BadText": "line, word", "BadCommand": "word", "BadName": "value",
+        "NoName": "name", "NoRow": "at", "Blocked": "word", "Nothing": None, "TooMany": "what, most",
+    },
+    "checks": {
+        "is_integer": "value", "is_within": "value, least, most", "is_state": "value", "is_box": "value",
+        "is_number": "value", "is_name": "value",
+    },
+    "deeds": {
+        "Deed": "", "Take": "box", "Send": "box, number", "Put": "box", "Out": "box", "Answer": "number",
+        "Move": "box, to", "Clear": "box",
+    },
+    "rows": {"Row": "state, *deeds, then, hear=None, empty=(), full=()"},
+    "ends": {"End": None, "Sender": "*rows", "Receiver": "*rows"},
+    "channels": {
+        "Fault": "", "Loses": "", "Doubles": "", "Overtakes": "by", "Channel": "capacity, *faults",
+        "channels_of": "capacity",
+    },
+    "links": {"Link": "sender, receiver, down, up"},
+    "steps": {"Step": "", "Act": "side, at", "Hear": "side, at, place=0, stays=False", "Lose": "way, place"},
+}
+
+DEED = {
+    "verb": "self", "is_for": "self, side", "named_boxes": "self", "named_numbers": "self",
+    "renumbered": "self, table", "__eq__": None, "__str__": None,
+}
+STEP = {"is_fault": "property", "__eq__": None, "__str__": None}
+FAULT = {"__eq__": None, "__str__": None}
+
+# Methods by module and class, with their parameters; "property" for a property.
+METHODS = {
+    "deeds": {
+        "Deed": {**DEED, "read": "text"},
+        **{name: DEED for name in ("Take", "Send", "Put", "Out", "Answer", "Move", "Clear")},
+    },
+    "rows": {"Row": {
+        "sides": "self", "named_boxes": "self", "named_numbers": "self", "takes": "property",
+        "renumbered": "self, table", "__eq__": None, "__lt__": None, "__str__": None, "read": "text",
+    }},
+    "ends": {
+        "End": {
+            "__len__": None, "__iter__": None, "__getitem__": None, "__contains__": None, "__add__": None,
+            "__sub__": None, "with_row": "self, at, row", "without_row": "self, at", "at_state": "self, state",
+            "boxes": "property", "states": "property", "numbers": "property", "renumbered": "self, table",
+            "__eq__": None, "__str__": None,
+        },
+        "Sender": {"__init__": None, "read": "text"},
+        "Receiver": {"__init__": None, "read": "text"},
+    },
+    "channels": {
+        "Fault": FAULT, "Loses": FAULT, "Doubles": FAULT, "Overtakes": {"__init__": None, **FAULT},
+        "Channel": {
+            "loses": "property", "doubles": "property", "overtakes": "property", "__iter__": None,
+            "__contains__": None, "__add__": None, "__sub__": None, "__and__": None, "__or__": None,
+            "within": "self, other", "__eq__": None, "__str__": None, "read": "text",
+        },
+    },
+    "links": {"Link": {
+        "mixed": "self, other", "within": "self, other", "with_channels": "self, down=None, up=None",
+        "renumbered": "self, table", "__eq__": None,
+    }},
+    "steps": {"Step": {**STEP, "read": "text"}, "Act": STEP, "Hear": STEP, "Lose": STEP},
+}
+
+
+class TestInterface(unittest.TestCase):
+
+    def test_functions_and_classes_with_their_parameters(self):
+        for module, calls in CALLS.items():
+            for name, parameters in calls.items():
+                found = getattr(importlib.import_module(f"markedpair.{module}"), name)
+                self.assertEqual(found.__module__, f"markedpair.{module}", name)
+                if parameters is not None:
+                    self.assertEqual(str(inspect.signature(found)), f"({parameters})", name)
+
+    def test_methods_stand_in_their_classes(self):
+        for module, classes in METHODS.items():
+            for name, methods in classes.items():
+                body = vars(getattr(importlib.import_module(f"markedpair.{module}"), name))
+                for method, parameters in methods.items():
+                    self.assertIn(method, body, name)
+                    if parameters == "property":
+                        self.assertIsInstance(body[method], property, (name, method))
+                    elif parameters is not None:
+                        self.assertEqual(self.parameters_of(body[method]), parameters, (name, method))
+
+    def parameters_of(self, method):
+        if isinstance(method, classmethod):
+            return str(inspect.signature(method.__func__))[1:-1].removeprefix("cls, ")
+        return str(inspect.signature(method))[1:-1]
