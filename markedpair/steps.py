@@ -109,6 +109,11 @@ class Lose(Step):
         return f"lose {self.way} {self.place}"
 
 
+def is_step(value):
+    """Whether any value is a step of one of the three kinds."""
+    return isinstance(value, (Act, Hear, Lose))
+
+
 def step_from(words):
     """Reads a step."""
     first = words.one_of(("sender", "receiver", "lose"))

@@ -2,12 +2,17 @@
 
 import random
 
+from markedpair.borne import Borne
 from markedpair.channels import Channel, Doubles, Loses, Overtakes
 from markedpair.deeds import Answer, Clear, Move, Out, Put, Send, Take
 from markedpair.ends import Receiver, Sender
 from markedpair.errors import BadText
+from markedpair.going import Goes, Stuck
+from markedpair.judged import Broken, Kept
 from markedpair.links import Link
+from markedpair.pictures import Change
 from markedpair.rows import Row
+from markedpair.runs import Run
 from markedpair.steps import Act, Hear, Lose
 
 SENDER = Sender(
@@ -25,6 +30,9 @@ OBJECTS = [
     Link(SENDER, RECEIVER, Channel(1), Channel(2)),
     Act("sender", 0), Hear("receiver", 1, 1, True), Lose("up", 2),
     BadText(0, 1),
+    Run(Link(SENDER, RECEIVER, Channel(1), Channel(2)), ["p"]),
+    Kept((), ()), Broken(()), Broken((Act("sender", 0),)), Goes(()), Stuck((), None, ()), Borne((), ()),
+    Change(Act("sender", 0), ".", None, False),
 ]
 
 PLAIN = [

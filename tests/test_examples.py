@@ -59,6 +59,89 @@ STEPS = """
 ['sender 0', 'receiver 0 place 0', 'receiver 0 place 1 stays']
 """
 
+RUNS = """
+>>> from markedpair.channels import Channel
+>>> from markedpair.ends import Receiver, Sender
+>>> from markedpair.links import Link
+>>> from markedpair.runs import Run
+>>> from markedpair.steps import Act, Hear, Step
+>>> sender = Sender.read("0 empty 0 : take 0 > 0 ; 0 full 0 : send 0 0 > 0 ; 0 hear 0 full 0 : clear 0 > 0")
+>>> receiver = Receiver.read("0 hear 0 : put 0 , out 0 , answer 0 > 0")
+>>> plain = Link(sender, receiver, Channel(1), Channel(2))
+>>> run = Run(plain, ["p", "q"])
+>>> [str(step) for step in run.open_steps()]
+['sender 0']
+>>> run += Act("sender", 0)
+>>> run.do(Act("sender", 1))
+>>> [run.seen(), run.seen(0), run.seen(0, 1), run.letters(), run.blocked(Act("sender", 1))]
+['0 0 0 . 0. 0 - -', '1 1 0 a 0a 0 - -', '2 1 0 a 0a 0 - -', ((0, 0),), 'room']
+>>> for step in (Hear("receiver", 0), Act("sender", 1), Hear("receiver", 0)): run.do(step)
+>>> [run.out, run.outs, run.is_true, run.seen(0), run.seen(1), run.answers()]
+[('p', 'p'), (0, 0), False, '1 2 0 a - 0 - 00', '1 0 0 . - 0 - 00', (0, 0)]
+>>> [str(run.undo()), run.is_true, str(Step.read("receiver 0 place 1 stays"))]
+['receiver 0 place 0', True, 'receiver 0 place 1 stays']
+>>> run.do(Act("sender", 0))
+raises Blocked('boxes')
+"""
+
+PICTURES = """
+>>> from markedpair.pictures import Change, is_picture, moves, reached, start, unmarked
+>>> rows = ["0 empty 0 : take 0 > 0", "0 full 0 : send 0 0 > 0", "0 hear 0 full 0 : clear 0 > 0"]
+>>> again = Link(Sender(*[Row.read(row) for row in rows]), Receiver(Row.read("0 hear 0 : put 0 , out 0 , answer 0 > 0")), Channel(1), Channel(1))
+>>> [start(again, 1), [(str(one.step), one.sign, one.then, one.breaks) for one in moves(again, start(again, 1))]]
+['1 0 0 - - 0 - -', [('sender 0', '.', '1 0 0 . - 0 - -', False), ('sender 0', 'a', '1 1 0 a - 0 - -', False)]]
+>>> [(one.sign, one.then, one.breaks) for one in moves(again, "1 1 0 a 0a 0 - -")]
+[(None, '1 2 0 a - 0 - 0', False)]
+>>> [(one.then, one.breaks) for one in moves(again, "1 2 0 - 0a 0 - -")]
+[('1 2 0 . 0a 0 - -', False), (None, True)]
+>>> [(one.then, one.breaks) for one in moves(again, "2 2 0 b 0a 0 - -")]
+[(None, False)]
+>>> [is_picture(again, "1 2 0 . 0. 0 - -"), is_picture(again, "1 1 0 . 0. 0 - -"), unmarked("2 2 0 b 0a 0 - -")]
+[False, True, '0 0 0 . 0. 0 - -']
+>>> reached(Link(Sender(), Receiver(), Channel(1), Channel(2)), 2)
+('2 0 0 - - 0 - -',)
+"""
+
+JUDGED = """
+>>> from markedpair.judged import Broken, Kept, Verdict, judge
+>>> from markedpair.look_judged import shows_judged
+>>> told = judge(again)
+>>> [bool(told), len(told.steps), shows_judged(again, told), shows_judged(again, Broken(told.steps[:5])), shows_judged(again, Broken(told.steps + told.steps[:1]))]
+[False, 6, True, False, True]
+>>> mute = Link(Sender(), Receiver(), Channel(1), Channel(1))
+>>> [judge(mute) == Kept(("1 0 0 - - 0 - -",), ("2 0 0 - - 0 - -",)), shows_judged(mute, judge(mute)), shows_judged(mute, Kept(("1 0 0 - - 0 - -",), ())), shows_judged(again, judge(mute))]
+[True, True, False, False]
+>>> judge(again, limit=1)
+raises TooMany('pictures', 1)
+"""
+
+GOING = """
+>>> from markedpair.deeds import Answer, Clear, Out, Put, Send, Take
+>>> from markedpair.ends import Receiver, Sender
+>>> from markedpair.going import Goes, Stuck, goes_on
+>>> from markedpair.links import Link
+>>> from markedpair.look_going import shows_going
+>>> from markedpair.rows import Row
+>>> once = Sender(Row(0, Take(0), Send(0, 0), then=1, empty=(0,)), Row(1, Clear(0), then=0, hear=0))
+>>> reply = Receiver(Row(0, Put(0), Out(0), Answer(0), then=0, hear=0))
+>>> calm, lossy = [Link(once, reply, channel, channel) for channel in (Channel(1), Channel(1, Loses()))]
+>>> goes_on(calm).ranks
+(('1 0 0 - - 0 - -', 1), ('1 0 1 . - 0 - 0', 2), ('1 0 1 . 0. 0 - -', 3), ('1 1 1 a 0a 0 - -', 1))
+>>> stuck = goes_on(lossy)
+>>> [bool(stuck), len(stuck.steps), str(stuck.steps[0]), str(stuck.steps[1]), len(stuck.lot), shows_going(lossy, stuck), shows_going(calm, stuck)]
+[False, 2, 'sender 0', 'lose down 0', 1, True, False]
+"""
+
+BORNE = """
+>>> from markedpair.borne import borne
+>>> from markedpair.look_borne import shows_borne
+>>> found = borne(calm, "down")
+>>> [[str(channel) for channel, paper in rows] for rows in (found.kept, found.broken)]
+[['1 loses overtakes 2'], ['1 doubles']]
+>>> [len(found.broken[0][1].steps), str(found.broken[0][1].steps[1]), shows_borne(calm, "down", found)]
+[4, 'receiver 0 place 0 stays', True]
+"""
+
 
 def examples_of(text):
     """The pairs of what is asked and what it gives, None if it gives nothing."""
@@ -87,6 +170,6 @@ class TestExamples(unittest.TestCase):
 
     def test_all_of_them(self):
         names = {}
-        for text in (DEEDS, ROWS, ENDS, CHANNELS, STEPS):
+        for text in (DEEDS, ROWS, ENDS, CHANNELS, STEPS, RUNS, PICTURES, JUDGED, GOING, BORNE):
             for asked, given in examples_of(text):
                 self.assert_example(asked, given, names)

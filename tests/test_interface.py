@@ -28,6 +28,17 @@ CALLS = {
     },
     "links": {"Link": "sender, receiver, down, up"},
     "steps": {"Step": "", "Act": "side, at", "Hear": "side, at, place=0, stays=False", "Lose": "way, place"},
+    "runs": {"Run": "link, messages=()"},
+    "pictures": {
+        "start": "link, marks", "is_picture": "link, value", "Change": "step, sign, then, breaks",
+        "moves": "link, picture", "reached": "link, marks, limit=5000", "unmarked": "picture",
+    },
+    "judged": {"Verdict": "", "judge": "link, limit=5000", "Kept": "one, two", "Broken": "steps"},
+    "look_judged": {"shows_judged": "link, value"},
+    "going": {"goes_on": "link, limit=5000", "Goes": "ranks", "Stuck": "steps, mark, lot"},
+    "look_going": {"shows_going": "link, value"},
+    "borne": {"borne": "link, way, limit=5000", "Borne": "kept, broken"},
+    "look_borne": {"shows_borne": "link, way, value"},
 }
 
 DEED = {
@@ -36,6 +47,8 @@ DEED = {
 }
 STEP = {"is_fault": "property", "__eq__": None, "__str__": None}
 FAULT = {"__eq__": None, "__str__": None}
+PAPER = {"__init__": None, "__eq__": None}
+VERDICT = {**PAPER, "__bool__": None}
 
 # Methods by module and class, with their parameters; "property" for a property.
 METHODS = {
@@ -70,10 +83,32 @@ METHODS = {
         "renumbered": "self, table", "__eq__": None,
     }},
     "steps": {"Step": {**STEP, "read": "text"}, "Act": STEP, "Hear": STEP, "Lose": STEP},
+    "runs": {"Run": {
+        "__init__": None, "do": "self, step", "__iadd__": None, "blocked": "self, step", "undo": "self",
+        "open_steps": "self", "done": "property", "took": "property", "outs": "property", "out": "property",
+        "is_true": "property", "state_of": "self, side", "boxes_of": "self, side", "letters": "self",
+        "answers": "self", "seen": "self, *marked", "trial": "self", "tried": "self, work", "twin": "self",
+        "of": "link, steps, messages=None",
+    }},
+    "pictures": {"Change": PAPER},
+    "judged": {"Verdict": {}, "Kept": VERDICT, "Broken": VERDICT},
+    "going": {"Goes": VERDICT, "Stuck": VERDICT},
+    "borne": {"Borne": PAPER},
 }
 
 
+GENERATORS = {"ends": ["End.at_state"], "channels": ["channels_of"], "runs": ["Run.open_steps"], "pictures": ["moves"]}
+
+
 class TestInterface(unittest.TestCase):
+
+    def test_generators(self):
+        for module, names in GENERATORS.items():
+            for name in names:
+                found = importlib.import_module(f"markedpair.{module}")
+                for part in name.split("."):
+                    found = getattr(found, part)
+                self.assertTrue(inspect.isgeneratorfunction(found), name)
 
     def test_functions_and_classes_with_their_parameters(self):
         for module, calls in CALLS.items():
@@ -97,4 +132,6 @@ class TestInterface(unittest.TestCase):
     def parameters_of(self, method):
         if isinstance(method, classmethod):
             return str(inspect.signature(method.__func__))[1:-1].removeprefix("cls, ")
+        if isinstance(method, staticmethod):
+            return str(inspect.signature(method.__func__))[1:-1]
         return str(inspect.signature(method))[1:-1]

@@ -93,13 +93,23 @@ class TestImportsAndModules(unittest.TestCase):
                 if isinstance(node, ast.ImportFrom):
                     names += [alias.name for alias in node.names]
                 elif isinstance(node, ast.Assign):
-                    ast.literal_eval(node.value)
+                    self.assert_plain(node.value, tree.body[:at])
                     names.append(node.targets[0].id)
                 elif isinstance(node, (ast.FunctionDef, ast.ClassDef)):
                     names.append(node.name)
                 else:
                     self.assertEqual((at, type(node)), (0, ast.Expr), stem)
             self.assertEqual(len(names), len(set(names)), stem)
+
+    def assert_plain(self, value, above):
+        """A plain value, or a dict from plain values to functions that are defined above it."""
+        functions_above = [node.name for node in above if isinstance(node, ast.FunctionDef)]
+        if isinstance(value, ast.Dict) and all(isinstance(worth, ast.Name) for worth in value.values):
+            for key, worth in zip(value.keys, value.values):
+                ast.literal_eval(key)
+                self.assertIn(worth.id, functions_above)
+        else:
+            ast.literal_eval(value)
 
 
 class TestStatementsAndNames(unittest.TestCase):
@@ -185,3 +195,66 @@ class TestClasses(unittest.TestCase):
                     if isinstance(inner.value, ast.Call):
                         name = getattr(inner.value.func, "id", None) or inner.value.func.attr
                         self.assertIn(name, ("str", "repr", "join", "len"), (stem, inner.lineno))
+
+
+def generators():
+    """The names of all generators of the package."""
+    return {node.name for _, node in functions() if any(isinstance(inner, (ast.Yield, ast.YieldFrom)) for inner in ast.walk(node))}
+
+
+def properties():
+    """The names of all properties of the package."""
+    return {node.name for _, node in functions() if "property" in [getattr(told, "id", "") for told in node.decorator_list]}
+
+
+def setters():
+    """The names of all properties that can be set."""
+    return {told.value.id for _, node in functions() for told in node.decorator_list if isinstance(told, ast.Attribute)}
+
+
+class TestOperatorsAndGenerators(unittest.TestCase):
+
+    def test_no_sum_in_place(self):
+        # Allowed in places; but never in what an operator or a property runs, as a class has __iadd__.
+        for stem, node in nodes(ast.AugAssign):
+            self.fail((stem, node.lineno))
+
+    def test_calls_of_generators_are_iterated_at_once(self):
+        parents = {child: node for _, node in nodes(ast.AST) for child in ast.iter_child_nodes(node)}
+        names = generators()
+        for stem, node in nodes(ast.Call):
+            if (getattr(node.func, "id", None) or getattr(node.func, "attr", None)) in names:
+                above = parents[node]
+                at_once = isinstance(above, (ast.For, ast.comprehension, ast.YieldFrom))
+                listed = isinstance(above, ast.Call) and getattr(above.func, "id", "") in ("list", "tuple", "sorted")
+                self.assertTrue(at_once or listed, (stem, node.lineno))
+                for told in node.args:
+                    self.assertIsInstance(told, (ast.Name, ast.Attribute, ast.Constant), (stem, node.lineno))
+
+    def test_no_attribute_has_the_name_of_a_property(self):
+        barred = properties() - setters()
+        for stem, node in nodes(ast.Attribute):
+            if isinstance(node.ctx, ast.Store):
+                self.assertNotIn(node.attr, barred, (stem, node.lineno))
+
+    def test_orders_get_what_is_plainly_numbers_or_strings(self):
+        for stem, node in nodes(ast.Call):
+            if getattr(node.func, "id", "") in ("sorted", "min", "max"):
+                plain = [told for told in node.args if self.is_plain(told)]
+                self.assertTrue(plain, (stem, node.lineno))
+
+    def is_plain(self, told):
+        if isinstance(told, ast.ListComp):
+            return self.is_plain(told.elt)
+        if isinstance(told, ast.Call):
+            return getattr(told.func, "id", "") in ("int", "str", "len", "range")
+        return isinstance(told, ast.Constant)
+
+    def test_exits_only_assign_attributes(self):
+        for stem, node in functions():
+            if node.name == "__exit__":
+                self.assertEqual([told.arg for told in node.args.args], ["self", "kind", "value", "trace"])
+                for inner in node.body:
+                    self.assertIsInstance(inner, ast.Assign, (stem, inner.lineno))
+                    for part in (inner.value, *inner.targets):
+                        self.assertIsInstance(part, ast.Attribute, (stem, inner.lineno))
