@@ -187,6 +187,24 @@ class TestBlocked(unittest.TestCase):
         run = Run.of(link, steps_of("sender 0", "receiver 0 place 0"))
         self.assert_words(run, {"sender 1 place 0": "boxes", "sender 2 place 0": None})
 
+    def test_each_word_stands_ahead_of_the_later_ones(self):
+        # All that is told behind a word holds of its step, too.
+        rows = ["1 hear 0 full 1 : clear 2 > 0", "0 hear 0 full 1 : clear 2 > 0", "0 hear 1 full 1 : clear 2 > 0",
+                "0 : take 0 , send 0 0 > 0", "0 : send 1 0 , take 2 > 0", "0 : send 0 0 , take 2 > 0", "0 : take 2 , send 1 0 > 0"]
+        link = Link(Sender.read(" ; ".join(rows)), Receiver.read("0 : answer 1 > 0"), Channel(1), Channel(1))
+        run = Run(link, ["p"])
+        self.assert_words(run, {
+            "sender 7": "row", "sender 0": "row", "sender 0 place 2 stays": "state", "sender 1 place 2 stays": "letter",
+            "sender 2 place 0 stays": "letter", "lose up 0": "letter", "receiver 0 place 0": "row",
+        })
+        for step in steps_of("sender 3", "receiver 0"):
+            run.do(step)
+        self.assert_words(run, {
+            "sender 0 place 0": "state", "sender 1 place 1": "letter", "sender 1 place 0 stays": "fault", "sender 1 place 0": "number",
+            "sender 2 place 0 stays": "fault", "sender 2 place 0": "boxes", "sender 4": "box", "sender 5": "room",
+            "sender 6": "message", "lose up 0": "fault", "lose up 1": "letter", "lose down 0": "fault",
+        })
+
     def test_deed_by_deed(self):
         rows = "0 : take 0 , send 0 0 , send 0 1 , clear 0 , clear 0 > 0 ; 0 : take 0 , send 0 0 , clear 1 > 0"
         for down, words in (("1", ["room", "box"]), ("2", ["box", "box"])):
