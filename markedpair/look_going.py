@@ -3,7 +3,7 @@
 from markedpair.checks import is_integer
 from markedpair.going import Goes, Stuck, ends_wait, hands_out
 from markedpair.links import need_link
-from markedpair.look_judged import are_steps, sights_of
+from markedpair.look_judged import are_steps, is_ascending, is_short_tuple, sights_of
 from markedpair.plays import Board
 from markedpair.scenes import last_scene, picture_behind
 from markedpair.sights import first_sight, turns_of
@@ -18,13 +18,10 @@ def shows_going(link, value):
     return isinstance(value, Stuck) and is_stuck(board, value)
 
 
-def is_ascending(texts):
-    """Whether these strings are ascending."""
-    return all([texts[at - 1] < texts[at] for at in range(1, len(texts))])
-
-
 def waiting_of(board, texts, stages):
     """The dict from texts to pictures with one mark of these stages; None if it is no ascending tuple of such texts."""
+    if not is_short_tuple(texts):
+        return None
     sights = sights_of(board, texts, 1)
     if sights is None or not is_ascending(texts):
         return None

@@ -14,21 +14,38 @@ def shows_judged(link, value):
     need_link(link, "link")
     board = Board(link)
     if isinstance(value, Kept):
-        return is_closed(board, value.one, 1) and is_closed(board, value.two, 2)
+        return is_closed_table(board, value.one, 1) and is_closed_table(board, value.two, 2)
     return isinstance(value, Broken) and is_breaking(board, value.steps)
 
 
-def is_closed(board, table, marks):
-    """Whether any value is a tuple of pictures that is a closed table for so many marks."""
-    sights = sights_of(board, table, marks)
-    if sights is None or first_sight(board, marks).text not in sights:
+def is_closed_table(board, value, marks):
+    """Whether any value is a tuple of not too many pictures that is a closed table for so many marks."""
+    if not is_short_tuple(value):
+        return False
+    sights = sights_of(board, value, marks)
+    return sights is not None and is_closed(board, sights, marks)
+
+
+def is_short_tuple(value):
+    """Whether any value is a tuple with no more items than a looker goes through."""
+    return isinstance(value, tuple) and len(value) <= MOST_PICTURES
+
+
+def is_closed(board, sights, marks):
+    """Whether these pictures, by their texts, are a closed table for so many marks."""
+    if first_sight(board, marks).text not in sights:
         return False
     return all([leads_into(turn, sights) for sight in sights.values() for turn in turns_of(board, sight)])
 
 
+def is_ascending(texts):
+    """Whether these strings are ascending."""
+    return all([texts[at - 1] < texts[at] for at in range(1, len(texts))])
+
+
 def sights_of(board, table, marks):
     """The dict from texts to pictures with so many marks; None for any value that is no tuple of such texts."""
-    if not isinstance(table, tuple) or len(table) > MOST_PICTURES:
+    if not isinstance(table, tuple):
         return None
     sights = {}
     for text in table:
@@ -46,9 +63,7 @@ def leads_into(turn, sights):
 
 def are_steps(value):
     """Whether any value is a tuple of steps that a looker goes through."""
-    if not isinstance(value, tuple) or len(value) > MOST_PICTURES:
-        return False
-    return all([is_step(step) for step in value])
+    return is_short_tuple(value) and all([is_step(step) for step in value])
 
 
 def is_breaking(board, steps):

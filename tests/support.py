@@ -14,6 +14,7 @@ from markedpair.pictures import Change
 from markedpair.rows import Row
 from markedpair.runs import Run
 from markedpair.steps import Act, Hear, Lose
+from markedpair.used import Idle
 
 SENDER = Sender(
     Row(0, Take(0), then=0, empty=(0,)),
@@ -32,7 +33,7 @@ OBJECTS = [
     BadText(0, 1),
     Run(Link(SENDER, RECEIVER, Channel(1), Channel(2)), ["p"]),
     Kept((), ()), Broken(()), Broken((Act("sender", 0),)), Goes(()), Stuck((), None, ()), Borne((), ()),
-    Change(Act("sender", 0), ".", None, False),
+    Change(Act("sender", 0), ".", None, False), Idle((), ()),
 ]
 
 PLAIN = [

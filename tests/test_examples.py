@@ -142,6 +142,54 @@ BORNE = """
 [4, 'receiver 0 place 0 stays', True]
 """
 
+FAMILIES = """
+>>> from markedpair.channels import Channel, Loses
+>>> from markedpair.families import all_so_far, each_by_itself, least_numbers, one_by_one
+>>> two = one_by_one(2)
+>>> [len(two[0]), len(two[1]), str(two[0][2]), str(two[1][3])]
+[8, 4, '0 hear 0 full 0 : clear 0 > 1', '1 hear other : answer 0 > 1']
+>>> [str(row) for row in list(all_so_far(2, 3)[0])[4:8]]
+['0 hear 1 empty 1 full 0 : clear 0 > 1', '0 hear 1 full 1 : move 1 0 > 1', '0 hear 2 full 1 : clear 0 , clear 1 > 2', '0 hear other : - > 0']
+>>> [len(end) for end in (*all_so_far(2, 3), *each_by_itself(2, 4), *each_by_itself(1, 3))]
+[24, 6, 44, 20, 12, 9]
+>>> [str(each_by_itself(2, 4)[0][at]) for at in (8, 32)]
+['1 empty 0 : take 0 > 1', '4 full 0 : send 0 0 > 4']
+>>> [least_numbers("one_by_one", 1, Channel(1), Channel(1)), least_numbers("all_so_far", 2, Channel(1), Channel(1, Loses()))]
+[2, 3]
+>>> each_by_itself(3, 2)
+raises BadCount(3)
+"""
+
+USED = """
+>>> from markedpair.deeds import Clear, Out, Put, Send, Take
+>>> from markedpair.ends import Receiver, Sender
+>>> from markedpair.links import Link
+>>> from markedpair.rows import Row
+>>> from markedpair.steps import Act, Hear
+>>> from markedpair.used import Idle, first_use, idle_rows, without_idle
+>>> from markedpair.look_used import shows_idle
+>>> plain = Link(Sender(Row(0, Take(0), then=1, empty=(0,)), Row(1, Send(0, 0), then=1), Row(2, Clear(0), then=0)), Receiver(Row(0, Put(0), Out(0), then=0, hear=0), Row(0, then=0, hear=1)), Channel(1), Channel(1))
+>>> idle = idle_rows(plain)
+>>> [idle.table, idle.rows]
+[('0 0 0 - - 0 - -', '0 0 1 . - 0 - -', '0 0 1 . 0. 0 - -'), (('sender', 2), ('receiver', 1))]
+>>> [first_use(plain, "receiver", 0) == (Act("sender", 0), Act("sender", 1), Hear("receiver", 0)), first_use(plain, "sender", 2), shows_idle(plain, idle), shows_idle(plain, Idle(idle.table[:2], idle.rows))]
+[True, None, True, False]
+>>> [len(without_idle(plain).sender), len(without_idle(plain).receiver)]
+[2, 1]
+"""
+
+LOGS = """
+>>> from markedpair.logs import explained, first_wrong, log_of, next_entries
+>>> from markedpair.runs import Run
+>>> run = Run.of(plain, first_use(plain, "receiver", 0), ["m"])
+>>> [log_of(run), first_wrong(plain, log_of(run)), first_wrong(plain, ["sent 0", "heard 0", "heard 0"]), explained(plain, ["heard 0"])]
+[('sent 0', 'heard 0'), None, 2, None]
+>>> [next_entries(plain, []), next_entries(plain, ["sent 0"]), next_entries(plain, ["got 1"]), len(explained(plain, ["sent 0", "heard 0"]))]
+[('sent 0',), ('heard 0',), (), 3]
+>>> first_wrong(plain, ["sent 0", "sent 7"])
+raises BadLog(1)
+"""
+
 
 def examples_of(text):
     """The pairs of what is asked and what it gives, None if it gives nothing."""
@@ -170,6 +218,6 @@ class TestExamples(unittest.TestCase):
 
     def test_all_of_them(self):
         names = {}
-        for text in (DEEDS, ROWS, ENDS, CHANNELS, STEPS, RUNS, PICTURES, JUDGED, GOING, BORNE):
+        for text in (DEEDS, ROWS, ENDS, CHANNELS, STEPS, RUNS, PICTURES, JUDGED, GOING, BORNE, FAMILIES, USED, LOGS):
             for asked, given in examples_of(text):
                 self.assert_example(asked, given, names)

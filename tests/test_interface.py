@@ -39,6 +39,19 @@ CALLS = {
     "look_going": {"shows_going": "link, value"},
     "borne": {"borne": "link, way, limit=5000", "Borne": "kept, broken"},
     "look_borne": {"shows_borne": "link, way, value"},
+    "families": {
+        "one_by_one": "numbers", "all_so_far": "window, numbers", "each_by_itself": "window, numbers",
+        "least_numbers": "kind, window, down, up, limit=5000",
+    },
+    "used": {
+        "idle_rows": "link, limit=5000", "Idle": "table, rows", "first_use": "link, side, at, limit=5000",
+        "without_idle": "link, limit=5000",
+    },
+    "look_used": {"shows_idle": "link, value"},
+    "logs": {
+        "log_of": "run", "first_wrong": "link, log, limit=5000", "explained": "link, log, limit=5000",
+        "next_entries": "link, log, limit=5000",
+    },
 }
 
 DEED = {
@@ -94,6 +107,7 @@ METHODS = {
     "judged": {"Verdict": {}, "Kept": VERDICT, "Broken": VERDICT},
     "going": {"Goes": VERDICT, "Stuck": VERDICT},
     "borne": {"Borne": PAPER},
+    "used": {"Idle": PAPER},
 }
 
 
