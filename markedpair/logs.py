@@ -54,7 +54,7 @@ def log_of(run):
         raise BadRun("run")
     entries = []
     for at, step in enumerate(run.done):
-        entries.extend(entries_of_step(run.board, run.scenes[at].moment, step))
+        entries.extend(entries_of_step(run.board, run.story[at].moment, step))
     return tuple(entries)
 
 

@@ -6,6 +6,7 @@ from markedpair.links import Link
 from markedpair.plays import Board, play
 from markedpair.scenes import first_scene, is_in_order, picture_behind, scene_behind
 from markedpair.steps import is_step
+from markedpair.trials import Trial
 
 MOST_STEPS = 400
 MOST_MESSAGES = 100
@@ -24,31 +25,6 @@ def are_marked(values):
     return len(values) < 2 or values[0] < values[1]
 
 
-class Ahead:
-    """The scenes that a run had when a block began, and what an earlier block keeps."""
-
-    def __init__(self, scenes, earlier):
-        self.scenes = scenes
-        self.earlier = earlier
-
-
-class Trial:
-    """A block behind which a run has the scenes that it had when the block began."""
-
-    def __init__(self, run):
-        self.run = run
-        self.ahead = None
-
-    def __enter__(self):
-        # A chain, as the same trial can be entered again before it is left.
-        self.ahead = Ahead(self.run.scenes, self.ahead)
-        return self.run
-
-    def __exit__(self, kind, value, trace):
-        self.run.scenes = self.ahead.scenes
-        self.ahead = self.ahead.earlier
-
-
 class Run:
     """A live run of a link that takes these messages, one after another."""
 
@@ -62,19 +38,19 @@ class Run:
         # Whether it takes 0, 1, 2 .. in the place of the messages.
         self.endless = False
         self.board = Board(link)
-        # From the beginning on; a tuple, so that a trial can keep it.
-        self.scenes = (first_scene(self.board),)
+        # The scenes from the beginning on; a tuple, so that a trial can keep it.
+        self.story = (first_scene(self.board),)
 
     def do(self, step):
         """Does a step."""
         if not is_step(step):
             raise BadStep("step")
-        if len(self.scenes) > MOST_STEPS:
+        if len(self.story) > MOST_STEPS:
             raise TooMany("steps", MOST_STEPS)
         outcome = self.outcome_of(step)
         if outcome.word is not None:
             raise Blocked(outcome.word)
-        self.scenes = (*self.scenes, scene_behind(self.scenes[-1], step, outcome))
+        self.story = (*self.story, scene_behind(self.story[-1], step, outcome))
 
     def __iadd__(self, other):
         self.do(other)
@@ -88,21 +64,21 @@ class Run:
 
     def outcome_of(self, step):
         """What a step leads to."""
-        scene = self.scenes[-1]
+        scene = self.story[-1]
         has_next = self.endless or scene.taken < len(self.messages)
         return play(self.board, scene.moment, step, scene.taken if has_next else None)
 
     def undo(self):
         """Takes the last step back and returns it."""
-        if len(self.scenes) == 1:
+        if len(self.story) == 1:
             raise Nothing()
-        step = self.scenes[-1].step
-        self.scenes = self.scenes[:-1]
+        step = self.story[-1].step
+        self.story = self.story[:-1]
         return step
 
     def open_steps(self):
         """The steps that can be done, in their order."""
-        tried = self.board.worth_a_try(self.scenes[-1].moment)
+        tried = self.board.worth_a_try(self.story[-1].moment)
         # All of them first, as the run can change between two of them.
         can_be_done = [step for step in tried if self.blocked(step) is None]
         for step in can_be_done:
@@ -111,52 +87,52 @@ class Run:
     @property
     def done(self):
         """The tuple of the steps."""
-        return tuple([scene.step for scene in self.scenes[1:]])
+        return tuple([scene.step for scene in self.story[1:]])
 
     @property
     def took(self):
         """How many messages were taken."""
-        return self.scenes[-1].taken
+        return self.story[-1].taken
 
     @property
     def outs(self):
         """The tuple of the places of the messages that were handed out, in order."""
-        return self.scenes[-1].given
+        return self.story[-1].given
 
     @property
     def out(self):
         """The tuple of the messages that were handed out, in order."""
-        places = self.scenes[-1].given
+        places = self.story[-1].given
         return places if self.endless else tuple([self.messages[place] for place in places])
 
     @property
     def is_true(self):
         """Whether what was handed out is a beginning of what was taken."""
-        return is_in_order(self.scenes[-1].given)
+        return is_in_order(self.story[-1].given)
 
     def state_of(self, side):
         """The state of an end."""
         need_side(side)
-        return self.scenes[-1].moment.own(side)[0]
+        return self.story[-1].moment.own(side)[0]
 
     def boxes_of(self, side):
         """The tuple of the place of the message in each box of an end, None for an empty one."""
         need_side(side)
-        return self.scenes[-1].moment.own(side)[1]
+        return self.story[-1].moment.own(side)[1]
 
     def letters(self):
         """The tuple of the pairs (number, place of the message) of the letters, the oldest one first."""
-        return self.scenes[-1].moment.down
+        return self.story[-1].moment.down
 
     def answers(self):
         """The tuple of the numbers of the answers, the oldest one first."""
-        return tuple([number for number, _ in self.scenes[-1].moment.up])
+        return tuple([number for number, _ in self.story[-1].moment.up])
 
     def seen(self, *marked):
         """The picture with marks at these places; None if it is over."""
         if not are_marked(marked):
             raise BadRun("marked")
-        return picture_behind(self.scenes[-1], marked)
+        return picture_behind(self.story[-1], marked)
 
     def trial(self):
         """A block behind which the steps are as when it began."""
@@ -171,7 +147,7 @@ class Run:
         """A run with the same link, messages and steps that goes its own way."""
         other = Run(self.link, self.messages)
         other.endless = self.endless
-        other.scenes = self.scenes
+        other.story = self.story
         return other
 
     @staticmethod

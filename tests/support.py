@@ -2,9 +2,11 @@
 
 import random
 
+from markedpair.bench import Bench
 from markedpair.borne import Borne
 from markedpair.channels import Channel, Doubles, Loses, Overtakes
 from markedpair.deeds import Answer, Clear, Move, Out, Put, Send, Take
+from markedpair.desk import Desk
 from markedpair.ends import Receiver, Sender
 from markedpair.errors import BadText
 from markedpair.going import Goes, Stuck
@@ -33,7 +35,7 @@ OBJECTS = [
     BadText(0, 1),
     Run(Link(SENDER, RECEIVER, Channel(1), Channel(2)), ["p"]),
     Kept((), ()), Broken(()), Broken((Act("sender", 0),)), Goes(()), Stuck((), None, ()), Borne((), ()),
-    Change(Act("sender", 0), ".", None, False), Idle((), ()),
+    Change(Act("sender", 0), ".", None, False), Idle((), ()), Bench(SENDER, RECEIVER), Desk(),
 ]
 
 PLAIN = [

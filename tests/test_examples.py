@@ -190,6 +190,51 @@ LOGS = """
 raises BadLog(1)
 """
 
+BENCH = """
+>>> from markedpair.bench import Bench
+>>> sender = Sender.read("0 empty 0 : take 0 > 0 ; 0 : send 0 0 > 0 ; 0 hear 0 : clear 0 > 0")
+>>> receiver = Receiver.read("0 hear 0 : put 0 , out 0 , answer 0 > 0")
+>>> bench = Bench(sender, receiver)
+>>> [bench.add("receiver", Row(0, Answer(0), then=0)), str(bench["sender", 2]), len(bench), len(bench.ends()[1])]
+[1, '0 hear 0 : clear 0 > 0', 1, 2]
+>>> bench["sender", 2] = Row(0, Clear(0), then=1, hear=0)
+>>> [bench.ends()[0].states, bench.undo(), bench.undo(), bench.ends() == (sender, receiver), bool(bench)]
+[(0, 1), 'set', 'add', True, False]
+>>> bench.tried(lambda same: (str(same.drop("sender", 0)), len(same.ends()[0])))
+('0 empty 0 : take 0 > 0', 2)
+>>> bench.drop("sender", 3)
+raises NoRow(3)
+"""
+
+TEXTS = """
+>>> from markedpair.channels import Channel
+>>> from markedpair.links import Link
+>>> from markedpair.reader import read_link, read_steps, read_verdict
+>>> from markedpair.texts import link_text, steps_text, verdict_text
+>>> link = Link(sender, receiver, Channel(1), Channel(2))
+>>> [link_text(link).split("\\n")[:3], read_link(link_text(link)) == link, read_steps("-")]
+[['down 1', 'up 2', 'sender 0 empty 0 : take 0 > 0'], True, ()]
+>>> [steps_text(read_steps("sender 0\\nsender 1")), read_verdict("broken\\nsender 0") == read_verdict("broken\\nsender 1")]
+['sender 0\\nsender 1', False]
+>>> read_link("down 1\\nup 2\\nreceiver 0 : answer 0 > 0\\nsender 0 : - > 0")
+raises BadText(3, 0)
+>>> read_link("down 1\\nup 2\\nsender 0 : put 0 > 0")
+raises BadText(2, 3)
+"""
+
+DESK = """
+>>> from markedpair.desk import Desk
+>>> desk = Desk()
+>>> desk.run_lines("one s r 2", "channel c 1 loses", "link l s r c c", "judge l", "one s t 1", "channel d 2", "link m s t c d", "judge m", "way m", "undo", "show d")
+['ok', 'ok', 'ok', 'kept', 'ok', 'ok', 'ok', 'broken 5', 'sender 0 ; sender 1 ; receiver 0 place 0 ; sender 1 ; receiver 0 place 0', 'ok', '2']
+>>> desk.run_lines("run u l 3", "do u sender 0", "do u sender 1", "do u receiver 0 place 0", "out u", "do u sender 4", "log u", "undo", "out u")
+['ok', 'ok', 'ok', 'ok', '0', 'blocked state', 'sent 0 ; heard 0 ; answered 0', 'ok', '-']
+>>> desk("show m")
+raises NoName('m')
+>>> desk("channel x 4")
+raises BadCommand(2)
+"""
+
 
 def examples_of(text):
     """The pairs of what is asked and what it gives, None if it gives nothing."""
@@ -218,6 +263,6 @@ class TestExamples(unittest.TestCase):
 
     def test_all_of_them(self):
         names = {}
-        for text in (DEEDS, ROWS, ENDS, CHANNELS, STEPS, RUNS, PICTURES, JUDGED, GOING, BORNE, FAMILIES, USED, LOGS):
+        for text in (DEEDS, ROWS, ENDS, CHANNELS, STEPS, RUNS, PICTURES, JUDGED, GOING, BORNE, FAMILIES, USED, LOGS, BENCH, TEXTS, DESK):
             for asked, given in examples_of(text):
                 self.assert_example(asked, given, names)

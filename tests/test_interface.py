@@ -52,6 +52,10 @@ CALLS = {
         "log_of": "run", "first_wrong": "link, log, limit=5000", "explained": "link, log, limit=5000",
         "next_entries": "link, log, limit=5000",
     },
+    "bench": {"Bench": "sender, receiver"},
+    "texts": {"link_text": "link", "steps_text": "steps", "verdict_text": "verdict"},
+    "reader": {"read_link": "text", "read_steps": "text", "read_verdict": "text"},
+    "desk": {"Desk": ""},
 }
 
 DEED = {
@@ -108,6 +112,15 @@ METHODS = {
     "going": {"Goes": VERDICT, "Stuck": VERDICT},
     "borne": {"Borne": PAPER},
     "used": {"Idle": PAPER},
+    "bench": {"Bench": {
+        "__init__": None, "add": "self, side, row", "drop": "self, side, at", "__getitem__": None, "__setitem__": None,
+        "undo": "self", "__len__": None, "__bool__": None, "room": "property", "make_room": "self, number", "ends": "self",
+        "twin": "self", "trial": "self", "tried": "self, work", "__eq__": None,
+    }},
+    "desk": {"Desk": {
+        "__init__": None, "say": "self, line", "__call__": None, "run_lines": "self, *lines", "names": "property",
+        "__len__": None,
+    }},
 }
 
 

@@ -169,7 +169,10 @@ class TestClasses(unittest.TestCase):
     def test_decorators_and_double_underscores(self):
         for stem, node in functions():
             for decorator in node.decorator_list:
-                self.assertIn(decorator.id, ("property", "staticmethod", "classmethod"), (stem, node.name))
+                if isinstance(decorator, ast.Attribute):
+                    self.assertEqual((decorator.value.id, decorator.attr), (node.name, "setter"), (stem, node.name))
+                else:
+                    self.assertIn(decorator.id, ("property", "staticmethod", "classmethod"), (stem, node.name))
             if node.name.startswith("__"):
                 self.assertIn(node.name.strip("_"), DUNDERS, (stem, node.name))
         for stem, node in nodes(ast.ClassDef):
