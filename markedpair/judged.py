@@ -1,7 +1,7 @@
 """The judgement of links: kept, shown by two closed tables, or broken, shown by a shortest run."""
 
+from markedpair.guides import Guide
 from markedpair.links import need_link
-from markedpair.plays import Board
 from markedpair.searches import Search, need_limit
 
 
@@ -40,24 +40,15 @@ def judge(link, limit=5000):
     """A Kept with the pictures that are reached, or a Broken with a shortest run that breaks."""
     need_link(link, "link")
     need_limit(limit)
-    board = Board(link)
-    searches = [Search(board, marks) for marks in (1, 2)]
+    guide = Guide(link)
+    searches = [Search(guide, marks) for marks in (1, 2)]
     while any([len(search.level) > 0 for search in searches]):
         # All breaking steps of a level ahead of the limit: pictures behind them do not count.
         for search in searches:
-            steps = steps_that_break(search)
-            if steps is not None:
-                return Broken(steps)
+            search.advance()
+            if search.breaking is not None:
+                return Broken(tuple([step for step, _, _, _ in search.turns_to(search.breaking)]))
         for search in searches:
             search.need_at_most(limit)
     one, two = searches
     return Kept(one.pictures(), two.pictures())
-
-
-def steps_that_break(search):
-    """Goes on by one level; the tuple of the steps of a way that breaks there, None if there is none."""
-    for sight, turn in search.advance():
-        if turn.breaks:
-            turns = search.turns_to(sight.text) + [turn]
-            return tuple([each.step for each in turns])
-    return None

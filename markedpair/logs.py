@@ -1,13 +1,13 @@
 """Logs of runs: what is told of sending and hearing, and which logs some run explains."""
 
-from markedpair.checks import LAST_NUMBER
 from markedpair.deeds import Answer, Send
 from markedpair.errors import BadLog, BadRun
+from markedpair.guides import Guide
 from markedpair.links import need_link
-from markedpair.plays import HEARS, Board
+from markedpair.plays import HEARS
 from markedpair.runs import Run
 from markedpair.searches import Search, need_limit
-from markedpair.sights import NUMERALS
+from markedpair.sights import LETTER_SIZE, NUMBERS
 from markedpair.steps import Hear, Lose
 
 MOST_ENTRIES = 60
@@ -22,7 +22,7 @@ def is_entry(value):
     if not isinstance(value, str):
         return False
     words = value.split(" ")
-    return len(words) == 2 and words[0] in FIRST_WORDS and words[1] in NUMERALS[:LAST_NUMBER + 1]
+    return len(words) == 2 and words[0] in FIRST_WORDS and words[1] in list(NUMBERS)
 
 
 def need_log(log):
@@ -34,14 +34,27 @@ def need_log(log):
             raise BadLog(at)
 
 
-def entries_of_step(board, moment, step):
-    """The list of the entries of a step that is done at a moment."""
+def number_in_moment(moment, step):
+    """The number that a step hears at a moment, None if it hears none."""
+    if not isinstance(step, Hear):
+        return None
+    number, _ = moment.held(HEARS[step.side])[step.place]
+    return number
+
+
+def number_in_sight(sight, step):
+    """The number that a step hears in a picture, None if it hears none."""
+    if not isinstance(step, Hear):
+        return None
+    _, _, letters, _, answers = sight
+    return int(answers[step.place]) if step.side == "sender" else int(letters[step.place * LETTER_SIZE])
+
+
+def entries_of_step(board, step, number):
+    """The list of the entries of a step that hears this number, or None."""
     if isinstance(step, Lose):
         return []
-    entries = []
-    if isinstance(step, Hear):
-        number, _ = moment.held(HEARS[step.side])[step.place]
-        entries.append(f"{HEARD[step.side]} {number}")
+    entries = [] if number is None else [f"{HEARD[step.side]} {number}"]
     for deed in board.players[step.side].rows[step.at].deeds:
         if isinstance(deed, (Send, Answer)):
             entries.append(f"{SENT[step.side]} {deed.number}")
@@ -54,8 +67,13 @@ def log_of(run):
         raise BadRun("run")
     entries = []
     for at, step in enumerate(run.done):
-        entries.extend(entries_of_step(run.board, run.story[at].moment, step))
+        entries.extend(entries_of_step(run.board, step, number_in_moment(run.story[at].moment, step)))
     return tuple(entries)
+
+
+def way_on(board, sight, step, then):
+    """The triple of a step of a picture, its entries, and the picture behind it."""
+    return step, entries_of_step(board, step, number_in_sight(sight, step)), then
 
 
 class Trace:
@@ -66,15 +84,15 @@ class Trace:
 
     def __init__(self, link, log, limit):
         self.log = log
-        # By the text of a picture: the triples of a step, its entries, and the text behind it.
-        self.paths = {}
-        search = Search(Board(link), 0)
-        first = (search.level[0].text, 0)
+        # By picture: the triples of a step, its entries, and the picture behind it.
+        self.ways = {}
+        guide = Guide(link)
+        search = Search(guide, 0)
         while len(search.level) > 0:
-            for sight, turn in search.advance():
-                entries = entries_of_step(search.board, sight.moment, turn.step)
-                self.paths.setdefault(sight.text, []).append((turn.step, entries, turn.then.text))
+            for sight, turns in search.advance_and_tell():
+                self.ways[sight] = [way_on(guide.board, sight, step, then) for step, _, then, _ in turns]
             search.need_at_most(limit)
+        first = (guide.first_sight(), 0)
         self.level = [first]
         # By place: the place ahead of it and the step from there; None for the first one.
         self.before = {first: None}
@@ -82,11 +100,11 @@ class Trace:
     def advance(self):
         """Goes on by one level; returns, of each step from it, the place, the step, its entries, and how many fit."""
         found = []
-        level = self.level
+        level = list(self.level)
         self.level = []
         for place in level:
-            text, at = place
-            for step, entries, then in self.paths.get(text, []):
+            sight, at = place
+            for step, entries, then in self.ways[sight]:
                 fitting = self.how_many_fit(entries, at)
                 found.append((place, step, entries, fitting))
                 if fitting == len(entries):

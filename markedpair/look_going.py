@@ -2,32 +2,29 @@
 
 from markedpair.checks import is_integer
 from markedpair.going import Goes, Stuck, ends_wait, hands_out
+from markedpair.guides import Guide
 from markedpair.links import need_link
 from markedpair.look_judged import are_steps, is_ascending, is_short_tuple, sights_of
-from markedpair.plays import Board
 from markedpair.scenes import last_scene, picture_behind
-from markedpair.sights import first_sight, turns_of
 
 
 def shows_going(link, value):
     """Whether any value is a Goes or a Stuck that shows what it says."""
     need_link(link, "link")
-    board = Board(link)
+    guide = Guide(link)
     if isinstance(value, Goes):
-        return is_going(board, value.ranks)
-    return isinstance(value, Stuck) and is_stuck(board, value)
+        return is_going(guide, value.ranks)
+    return isinstance(value, Stuck) and is_stuck(guide, value)
 
 
 def waiting_of(board, texts, stages):
-    """The dict from texts to pictures with one mark of these stages; None if it is no ascending tuple of such texts."""
+    """The dict from pictures with one mark of these stages to texts; None if it is no ascending tuple of such texts."""
     if not is_short_tuple(texts):
         return None
     sights = sights_of(board, texts, 1)
     if sights is None or not is_ascending(texts):
         return None
-    if not all([sight.stage in stages for sight in sights.values()]):
-        return None
-    return sights
+    return sights if all([sight[0] in stages for sight in sights]) else None
 
 
 def are_pairs(value):
@@ -37,39 +34,40 @@ def are_pairs(value):
     return all([is_integer(rank) and rank >= 1 for _, rank in value])
 
 
-def is_going(board, value):
+def is_going(guide, value):
     """Whether any value is the tuple of the ranks of a Goes."""
     if not are_pairs(value):
         return False
-    sights = waiting_of(board, tuple([text for text, _ in value]), (0, 1))
-    if sights is None or first_sight(board, 1).text not in sights:
+    sights = waiting_of(guide.board, tuple([text for text, _ in value]), (0, 1))
+    if sights is None or guide.first_sight() not in sights:
         return False
-    ranks = {text: rank for text, rank in value}
-    return all([has_a_way(sight, turns_of(board, sight), ranks) for sight in sights.values()])
+    told = {text: rank for text, rank in value}
+    ranks = {sight: told[sights[sight]] for sight in sights}
+    return all([has_a_way(sight, guide.turns_of(1, sight), ranks) for sight in sights])
 
 
 def has_a_way(sight, turns, ranks):
     """Whether all turns of a picture lead to ranked ones or hand `a` out, and one without faults leads out."""
-    for turn in turns:
-        if not hands_out(turn) and turn.then.text not in ranks:
+    for _, _, then, _ in turns:
+        if not hands_out(then) and then not in ranks:
             return False
-    calm = [turn for turn in turns if not turn.step.is_fault]
-    return any([ends_wait(sight, turn) or ranks[turn.then.text] < ranks[sight.text] for turn in calm])
+    calm = [(sign, then) for step, sign, then, _ in turns if not step.is_fault]
+    return any([ends_wait(sight, sign, then) or ranks[then] < ranks[sight] for sign, then in calm])
 
 
-def is_stuck(board, stuck):
+def is_stuck(guide, stuck):
     """Whether a Stuck shows what it says."""
     if not are_steps(stuck.steps):
         return False
-    scene = last_scene(board, stuck.steps)
+    scene = last_scene(guide.board, stuck.steps)
     if scene is None or not is_mark(stuck.mark, scene):
         return False
-    sights = waiting_of(board, stuck.lot, (0,) if stuck.mark is None else (1,))
+    sights = waiting_of(guide.board, stuck.lot, (0,) if stuck.mark is None else (1,))
     # Without a mark, the next message stands for one that is not taken yet.
     marked = scene.taken if stuck.mark is None else stuck.mark
-    if sights is None or picture_behind(scene, (marked,)) not in sights:
+    if sights is None or picture_behind(scene, (marked,)) not in stuck.lot:
         return False
-    return all([stays_in(sight, turn, sights) for sight in sights.values() for turn in turns_of(board, sight)])
+    return all([stays_in(sight, turn, sights) for sight in sights for turn in guide.turns_of(1, sight)])
 
 
 def is_mark(value, scene):
@@ -79,6 +77,5 @@ def is_mark(value, scene):
 
 def stays_in(sight, turn, sights):
     """Whether a turn has a fault, or leads to one of these pictures and does not end the wait."""
-    if turn.step.is_fault:
-        return True
-    return not ends_wait(sight, turn) and turn.then.text in sights
+    step, sign, then, _ = turn
+    return step.is_fault or not ends_wait(sight, sign, then) and then in sights

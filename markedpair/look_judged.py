@@ -1,29 +1,30 @@
 """The looker at judgements: it does each step of each picture of a table, or plays a run, and searches nothing."""
 
+from markedpair.guides import Guide
 from markedpair.judged import Broken, Kept
 from markedpair.links import need_link
 from markedpair.plays import Board
 from markedpair.scenes import is_in_order, last_scene
 from markedpair.searches import MOST_PICTURES
-from markedpair.sights import first_sight, sight_from, turns_of
+from markedpair.sights import sight_from
 from markedpair.steps import is_step
 
 
 def shows_judged(link, value):
     """Whether any value is a Kept or a Broken that is right for the link."""
     need_link(link, "link")
-    board = Board(link)
     if isinstance(value, Kept):
-        return is_closed_table(board, value.one, 1) and is_closed_table(board, value.two, 2)
-    return isinstance(value, Broken) and is_breaking(board, value.steps)
+        guide = Guide(link)
+        return is_closed_table(guide, value.one, 1) and is_closed_table(guide, value.two, 2)
+    return isinstance(value, Broken) and is_breaking(Board(link), value.steps)
 
 
-def is_closed_table(board, value, marks):
+def is_closed_table(guide, value, marks):
     """Whether any value is a tuple of not too many pictures that is a closed table for so many marks."""
     if not is_short_tuple(value):
         return False
-    sights = sights_of(board, value, marks)
-    return sights is not None and is_closed(board, sights, marks)
+    sights = sights_of(guide.board, value, marks)
+    return sights is not None and is_closed(guide, sights, marks)
 
 
 def is_short_tuple(value):
@@ -31,11 +32,15 @@ def is_short_tuple(value):
     return isinstance(value, tuple) and len(value) <= MOST_PICTURES
 
 
-def is_closed(board, sights, marks):
-    """Whether these pictures, by their texts, are a closed table for so many marks."""
-    if first_sight(board, marks).text not in sights:
+def is_closed(guide, sights, marks):
+    """Whether these pictures, the keys of a dict, are a closed table for so many marks."""
+    if guide.first_sight() not in sights:
         return False
-    return all([leads_into(turn, sights) for sight in sights.values() for turn in turns_of(board, sight)])
+    for sight in sights:
+        for _, _, then, breaks in guide.turns_of(marks, sight):
+            if breaks or then is not None and then not in sights:
+                return False
+    return True
 
 
 def is_ascending(texts):
@@ -44,21 +49,16 @@ def is_ascending(texts):
 
 
 def sights_of(board, table, marks):
-    """The dict from texts to pictures with so many marks; None for any value that is no tuple of such texts."""
+    """The dict from pictures with so many marks to their texts; None for any value that is no tuple of such texts."""
     if not isinstance(table, tuple):
         return None
     sights = {}
     for text in table:
-        sight = sight_from(board, text)
-        if sight is None or sight.marks != marks:
+        found = sight_from(board, text)
+        if found is None or found[0] != marks:
             return None
-        sights[text] = sight
+        sights[found[1]] = text
     return sights
-
-
-def leads_into(turn, sights):
-    """Whether a turn does not break, and leads to one of these pictures or to what is over."""
-    return not turn.breaks and (turn.then is None or turn.then.text in sights)
 
 
 def are_steps(value):

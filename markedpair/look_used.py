@@ -1,10 +1,9 @@
 """The looker at papers about idle rows: it does each step of each picture of a table, and searches nothing."""
 
 from markedpair.checks import is_integer
+from markedpair.guides import Guide
 from markedpair.links import need_link
 from markedpair.look_judged import is_ascending, is_closed, sights_of
-from markedpair.plays import Board
-from markedpair.sights import turns_of
 from markedpair.used import Idle, all_rows, row_of
 
 
@@ -13,14 +12,14 @@ def shows_idle(link, value):
     need_link(link, "link")
     if not isinstance(value, Idle) or not are_rows(value.rows):
         return False
-    board = Board(link)
-    sights = sights_of(board, value.table, 0)
-    if sights is None or not is_ascending(value.table) or not is_closed(board, sights, 0):
+    guide = Guide(link)
+    sights = sights_of(guide.board, value.table, 0)
+    if sights is None or not is_ascending(value.table) or not is_closed(guide, sights, 0):
         return False
     used = {}
-    for sight in sights.values():
-        for turn in turns_of(board, sight):
-            used[row_of(turn.step)] = True
+    for sight in sights:
+        for step, _, _, _ in guide.turns_of(0, sight):
+            used[row_of(step)] = True
     return value.rows == tuple([row for row in all_rows(link) if row not in used])
 
 

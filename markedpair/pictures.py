@@ -2,10 +2,11 @@
 
 from markedpair.checks import is_within
 from markedpair.errors import BadCount, BadPicture
+from markedpair.guides import Guide
 from markedpair.links import need_link
 from markedpair.plays import Board
 from markedpair.searches import Search, need_limit
-from markedpair.sights import BLANK, MARKS, first_sight, sight_from, turns_of
+from markedpair.sights import BLANK, MARKS, sight_from, text_of
 
 
 class Change:
@@ -33,7 +34,7 @@ def start(link, marks):
     """The picture at the beginning."""
     need_link(link, "link")
     need_marks(marks)
-    return first_sight(Board(link), marks).text
+    return text_of(marks, Guide(link).first_sight())
 
 
 def is_picture(link, value):
@@ -45,13 +46,13 @@ def is_picture(link, value):
 def moves(link, picture):
     """The Changes of all steps that can be done, in the order of the open steps of a run."""
     need_link(link, "link")
-    board = Board(link)
-    sight = sight_from(board, picture)
-    if sight is None:
+    guide = Guide(link)
+    found = sight_from(guide.board, picture)
+    if found is None:
         raise BadPicture("picture")
-    for turn in turns_of(board, sight):
-        then = None if turn.then is None else turn.then.text
-        yield Change(turn.step, turn.sign, then, turn.breaks)
+    marks, sight = found
+    for step, sign, then, breaks in guide.turns_of(marks, sight):
+        yield Change(step, sign, None if then is None else text_of(marks, then), breaks)
 
 
 def reached(link, marks, limit=5000):
@@ -59,10 +60,8 @@ def reached(link, marks, limit=5000):
     need_link(link, "link")
     need_marks(marks)
     need_limit(limit)
-    search = Search(Board(link), marks)
-    while len(search.level) > 0:
-        search.advance()
-        search.need_at_most(limit)
+    search = Search(Guide(link), marks)
+    search.run_out(limit)
     return search.pictures()
 
 

@@ -20,16 +20,28 @@ class Line:
 
 
 class Player:
-    """An end made ready for play: its rows, and by state its rows and the steps that do them."""
+    """An end made ready for play: its rows, by state the pairs (index, row), and the steps that do a row."""
 
     def __init__(self, end, line):
+        self.side = end.SIDE
         self.size = end.boxes
         self.rows = end.rows
-        self.rivals = {}
-        self.steps = {}
+        self.line = line
+        self.pairs = {}
         for at, row in enumerate(self.rows):
-            self.rivals.setdefault(row.state, []).append(row)
-            self.steps.setdefault(row.state, []).extend(steps_of_row(end.SIDE, at, row, line))
+            self.pairs.setdefault(row.state, []).append((at, row))
+        self.steps = {}
+
+    def pairs_at(self, state):
+        """The list of the pairs (index, row) of the rows of a state."""
+        return self.pairs.get(state, [])
+
+    def steps_of(self, at):
+        """The list of the steps that can do the row with an index, in their order."""
+        # Only those that are asked for are made, as most rows of a large table may never have their turn.
+        if at not in self.steps:
+            self.steps[at] = steps_of_row(self.side, at, self.rows[at], self.line)
+        return self.steps[at]
 
 
 def steps_of_row(side, at, row, line):
@@ -60,7 +72,9 @@ class Board:
         """The steps of the states of both ends, and the losses, in their order."""
         steps = []
         for side in SIDES:
-            steps.extend(self.players[side].steps.get(moment.own(side)[0], []))
+            player = self.players[side]
+            for at, _ in player.pairs_at(moment.own(side)[0]):
+                steps.extend(player.steps_of(at))
         steps.extend(self.losses)
         return steps
 
@@ -85,11 +99,6 @@ class Moment:
     def held(self, way):
         """What a channel holds, the oldest one first."""
         return self.down if way == "down" else self.up
-
-    def all_messages(self):
-        """The list of the messages in boxes and letters."""
-        boxed = [message for message in self.sender[1] + self.receiver[1] if message is not None]
-        return boxed + [message for _, message in self.down]
 
 
 class Doing:
@@ -238,14 +247,16 @@ def word_of_hearing(board, moment, step, row):
     if step.place > line.reach or step.stays and not line.doubling:
         return "fault"
     number, _ = moment.held(way)[step.place]
-    rivals = board.players[step.side].rivals[row.state]
-    return None if hears(row, number, rivals, moment.own(step.side)[1]) else "number"
+    boxes = moment.own(step.side)[1]
+    pairs = board.players[step.side].pairs_at(row.state)
+    heard = [rival.hear for _, rival in pairs if fits(rival, boxes)]
+    return None if hears(row, number, heard) else "number"
 
 
-def hears(row, number, rivals, boxes):
-    """Whether a row hears a number, beside the rows of its state and with these boxes."""
+def hears(row, number, heard):
+    """Whether a row hears a number, where the rows of its state with fitting boxes hear these."""
     if row.hear == "other":
-        return not any([rival.hear == number and fits(rival, boxes) for rival in rivals])
+        return number not in heard
     return row.hear == number
 
 
@@ -260,6 +271,16 @@ def fits(row, boxes):
     return True
 
 
+def word_of_deeds(doing, deeds):
+    """Does deeds one after another; the word that blocks one of them, or None."""
+    for deed in deeds:
+        action = ACTIONS[deed.verb()]
+        word = action(doing, deed)
+        if word is not None:
+            return word
+    return None
+
+
 def play_row(board, moment, step, message):
     """The outcome of the deeds of a row that can be begun."""
     row = board.players[step.side].rows[step.at]
@@ -271,11 +292,9 @@ def play_row(board, moment, step, message):
     ahead = moment.held(SENDS[step.side])
     free = board.lines[SENDS[step.side]].capacity - len(ahead)
     doing = Doing(moment.own(step.side)[1], heard, message, free)
-    for deed in row.deeds:
-        action = ACTIONS[deed.verb()]
-        word = action(doing, deed)
-        if word is not None:
-            return Outcome(word)
+    word = word_of_deeds(doing, row.deeds)
+    if word is not None:
+        return Outcome(word)
     own = (row.then, tuple(doing.cells))
     sent = ahead + tuple(doing.sent)
     if step.side == "sender":

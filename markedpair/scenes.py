@@ -1,7 +1,7 @@
 """Runs step by step, with the places of messages as messages; and the pictures of runs."""
 
 from markedpair.plays import Moment, play
-from markedpair.sights import BLANK, MARKS, is_over, text_of
+from markedpair.sights import BLANK, MARKS, is_over, sight_of, text_of
 
 
 class Scene:
@@ -48,10 +48,8 @@ def picture_behind(scene, marked):
         if len(marked) == 2:
             return None
         stage = 2
-    moment = signed(scene.moment, marked)
-    if is_over(len(marked), stage, moment):
-        return None
-    return text_of(len(marked), stage, moment)
+    sight = sight_of(stage, signed(scene.moment, marked))
+    return None if is_over(len(marked), sight) else text_of(len(marked), sight)
 
 
 def signed(moment, marked):

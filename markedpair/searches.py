@@ -2,7 +2,7 @@
 
 from markedpair.checks import is_within
 from markedpair.errors import BadCount, TooMany
-from markedpair.sights import first_sight, turns_of
+from markedpair.sights import text_of
 
 MOST_PICTURES = 20000
 
@@ -19,24 +19,47 @@ class Search:
     Pictures of stages behind the last one are left out.
     """
 
-    def __init__(self, board, marks, last_stage=2):
-        first = first_sight(board, marks)
-        self.board = board
+    def __init__(self, guide, marks, last_stage=2):
+        first = guide.first_sight()
+        self.guide = guide
+        self.marks = marks
         self.last_stage = last_stage
         self.level = [first]
-        # By the text of a picture: the text ahead of it and the turn from there; None for the first one.
-        self.before = {first.text: None}
+        # By sight: the sight ahead of it and the turn from there; None for the first one.
+        self.before = {first: None}
+        # The same of the first turn that breaks.
+        self.breaking = None
 
     def advance(self):
-        """Goes on by one level; returns the pairs (sight, turn) of all turns of the level that is left."""
-        pairs = [(sight, turn) for sight in self.level for turn in turns_of(self.board, sight)]
+        """Goes on by one level."""
+        level = list(self.level)
         self.level = []
-        for sight, turn in pairs:
-            then = turn.then
-            if then is not None and then.stage <= self.last_stage and then.text not in self.before:
-                self.before[then.text] = (sight.text, turn)
-                self.level.append(then)
+        for sight in level:
+            self.note(sight, self.guide.turns_of(self.marks, sight))
+
+    def advance_and_tell(self):
+        """Goes on by one level; returns the pairs (sight, its turns) of the level that is left."""
+        pairs = [(sight, self.guide.turns_of(self.marks, sight)) for sight in self.level]
+        self.level = []
+        for sight, turns in pairs:
+            self.note(sight, turns)
         return pairs
+
+    def note(self, sight, turns):
+        """Adds the pictures to which the turns of a picture lead, if they are new."""
+        for turn in turns:
+            _, _, then, breaks = turn
+            if breaks and self.breaking is None:
+                self.breaking = (sight, turn)
+            if then is not None and then not in self.before and then[0] <= self.last_stage:
+                self.before[then] = (sight, turn)
+                self.level.append(then)
+
+    def run_out(self, limit):
+        """Goes on to the end; refuses more pictures than this limit."""
+        while len(self.level) > 0:
+            self.advance()
+            self.need_at_most(limit)
 
     def need_at_most(self, limit):
         """Refuses more pictures than this limit."""
@@ -45,12 +68,12 @@ class Search:
 
     def pictures(self):
         """The ascending tuple of the pictures."""
-        return tuple(sorted([str(text) for text in self.before]))
+        return tuple(sorted([str(text_of(self.marks, sight)) for sight in self.before]))
 
-    def turns_to(self, text):
-        """The list of the turns of a shortest way to a picture."""
+    def turns_to(self, last):
+        """The list of the turns of a shortest way whose last pair (sight ahead, turn) is this one, or of none."""
         turns = []
-        ahead = self.before[text]
+        ahead = last
         while ahead is not None:
             turns.append(ahead[1])
             ahead = self.before[ahead[0]]

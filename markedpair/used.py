@@ -3,8 +3,8 @@
 from markedpair.checks import SIDES, is_side, is_within
 from markedpair.ends import Receiver, Sender
 from markedpair.errors import BadStep, NoRow
+from markedpair.guides import Guide
 from markedpair.links import Link, need_link
-from markedpair.plays import Board
 from markedpair.searches import Search, need_limit
 from markedpair.steps import Lose
 
@@ -39,20 +39,20 @@ class Uses:
     """A search of all pictures without marks, and where each row that is done is done first."""
 
     def __init__(self, link, limit):
-        self.search = Search(Board(link), 0)
-        # By row: the text of the picture and the turn from there.
+        self.search = Search(Guide(link), 0)
+        # By row: the picture and the turn from there.
         self.first = {}
         while len(self.search.level) > 0:
-            for sight, turn in self.search.advance():
-                self.first.setdefault(row_of(turn.step), (sight.text, turn))
+            for sight, turns in self.search.advance_and_tell():
+                for turn in turns:
+                    self.first.setdefault(row_of(turn[0]), (sight, turn))
             self.search.need_at_most(limit)
 
     def steps_to(self, row):
         """The tuple of the steps of a shortest run whose last one does this row, None if it is idle."""
         if row not in self.first:
             return None
-        text, turn = self.first[row]
-        return tuple([each.step for each in self.search.turns_to(text) + [turn]])
+        return tuple([step for step, _, _, _ in self.search.turns_to(self.first[row])])
 
 
 def idle_rows(link, limit=5000):

@@ -81,6 +81,16 @@ class TestJudge(unittest.TestCase):
         self.assertIsInstance(judge(link_of(two_at_a_time(2), "1 loses", "1 loses")), Broken)
         self.assertIsInstance(judge(link_of(one_by_one(2), "2 overtakes 1", "1")), Broken)
 
+    def test_large_tables(self):
+        for channel, one, two in (("2 loses doubles", 2280, 1449), ("3 loses doubles", 10182, 6081)):
+            link = link_of(two_at_a_time(3), channel, channel)
+            found = judge(link, 20000)
+            self.assertEqual([len(found.one), len(found.two)], [one, two])
+            self.assertEqual(found, Kept(reached(link, 1, 20000), reached(link, 2, 20000)))
+            self.assertIs(shows_judged(link, found), True)
+            self.assertIs(shows_judged(link, Kept(found.one, found.two[:-1])), False)
+            assert_raises(self, TooMany("pictures", one - 1), judge, link, one - 1)
+
     def test_one_mark_is_not_enough(self):
         link = link_of(SWAPPING)
         self.assertFalse(any(change.breaks for picture in reached(link, 1) for change in moves(link, picture)))
