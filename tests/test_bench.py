@@ -140,6 +140,7 @@ class TestUndo(unittest.TestCase):
         bench = bench_of()
         assert_raises(self, Nothing(), bench.undo)
         bench.add("sender", CLEAR)
+        self.assertEqual([len(bench), bool(bench)], [1, True])
         bench["receiver", 0] = ANSWER
         bench.drop("sender", 0)
         self.assertEqual([len(bench), bool(bench)], [3, True])

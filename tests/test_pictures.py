@@ -94,6 +94,18 @@ class TestIsPicture(unittest.TestCase):
              "0 0 0 - 0A 0 - -", "\u0660 0 0 - - 0 - -", "0 0 0 - \u0660. 0 - -", "0 0 0 - - 0 - \u0660"],
         )
 
+    def test_each_state_number_and_sign(self):
+        for state in range(30):
+            self.assertIs(is_picture(LINK, f"0 0 {state} - - 0 - -"), state < 24)
+            self.assertIs(is_picture(LINK, f"0 0 0 - - {state} - -"), state < 24)
+        for number in range(10):
+            self.assertIs(is_picture(LINK, f"0 0 0 - {number}. 0 - -"), number < 6)
+            self.assertIs(is_picture(LINK, f"0 0 0 - - 0 - {number}"), number < 6)
+        for code in range(32, 127):
+            for picture in (f"2 2 0 {chr(code)} - 0 - -", f"2 2 0 - - 0 {chr(code)} -"):
+                self.assertIs(is_picture(LINK, picture), chr(code) in "-.ab", picture)
+            self.assertIs(is_picture(LINK, f"2 2 0 - 0{chr(code)} 0 - -"), chr(code) in ".ab")
+
     def test_what_boxes_and_channels_hold(self):
         self.assert_kinds(LINK, ["0 0 0 - 0. 0 - 0"], ["0 0 0 - 0.0. 0 - -", "0 0 0 - - 0 - 00"])
         self.assert_kinds(
